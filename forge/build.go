@@ -6,7 +6,6 @@ import (
 
 	"sapling/api"
 	"sapling/code"
-	"sapling/plan"
 	"sapling/stock"
 	"sapling/tree"
 	"sapling/view"
@@ -18,25 +17,20 @@ const (
 	inputs   = "in/"  // ahead of the places of what a build takes
 )
 
-// needed answers the entries that the wants need, in the order of packages.
-func (g *Forge) needed() []api.Entry {
-	var list []api.Entry
-	for _, p := range g.wants {
-		entries, _ := plan.Needs(g.stages, p)
-		list = append(list, entries...)
-	}
+// need adds entries to those that the wants need.
+func (g *Forge) need(entries []api.Entry) {
+	list := append(g.needed, entries...)
 	slices.SortFunc(list, func(x, y api.Entry) int { return stock.Compare(x.Pkg, y.Pkg) })
-	return slices.CompactFunc(list, func(x, y api.Entry) bool { return x.Pkg == y.Pkg })
+	g.needed = slices.CompactFunc(list, func(x, y api.Entry) bool { return x.Pkg == y.Pkg })
 }
 
 // find answers the needed entry of a package that is of some kind, and true; false, if there is none.
 func (g *Forge) find(p api.Pkg, kind func(api.Entry) bool) (api.Entry, bool) {
-	list := g.needed()
-	i := slices.IndexFunc(list, func(x api.Entry) bool { return x.Pkg == p && kind(x) })
+	i := slices.IndexFunc(g.needed, func(x api.Entry) bool { return x.Pkg == p && kind(x) })
 	if i < 0 {
 		return api.Entry{}, false
 	}
-	return list[i], true
+	return g.needed[i], true
 }
 
 // lacks answers whether a package has no record.
@@ -55,12 +49,18 @@ func (g *Forge) canEnd(x api.Entry) bool {
 // canStart answers whether a needed entry can be started.
 func (g *Forge) canStart(x api.Entry) bool { return g.canEnd(x) && !g.sched.Has(x.Pkg) }
 
-// ready answers the entries that can be started.
-func (g *Forge) ready() []api.Entry {
+// ready answers the packages of the entries that can be started.
+func (g *Forge) ready() []api.Pkg {
 	if g == nil {
 		return nil
 	}
-	return slices.DeleteFunc(g.needed(), func(x api.Entry) bool { return !g.canStart(x) })
+	var out []api.Pkg
+	for _, x := range g.needed {
+		if g.canStart(x) {
+			out = append(out, x.Pkg)
+		}
+	}
+	return out
 }
 
 // Start: a build begins; ErrNil, ErrDown, ErrState, ErrNone, ErrMany, and that of a build that came to nothing.

@@ -6,6 +6,7 @@ import (
 	"sapling/api"
 	"sapling/digits"
 	"sapling/eval"
+	"sapling/plan"
 	"sapling/recipe"
 	"sapling/sexp"
 	"sapling/stage"
@@ -200,13 +201,17 @@ func (g *Forge) wouldWant(v event) (func(), api.Errno) {
 	if !g.stock.Has(v.pkg) {
 		return nil, api.ErrNone
 	}
-	if _, ok := g.stages.Get(v.pkg); !ok {
+	entries, ok := plan.Needs(g.stages, v.pkg)
+	if !ok {
 		return nil, api.ErrNoBootstrap
 	}
 	if slices.Contains(g.wants, v.pkg) {
 		return nil, api.ErrTwice
 	}
-	return func() { g.wants = append(g.wants, v.pkg) }, api.OK
+	return func() {
+		g.wants = append(g.wants, v.pkg)
+		g.need(entries)
+	}, api.OK
 }
 
 func (g *Forge) wouldEnd(v event) (func(), api.Errno) {
