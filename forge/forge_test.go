@@ -320,7 +320,10 @@ func TestSealAndWant(t *testing.T) {
 	}
 	before := show(g)
 	r.Off(0)
-	_, _, e := g.Step(pkg("a 1"), 5)
+	n, done, e := g.Step(pkg("a 1"), 5)
+	if n != 0 || done {
+		t.Errorf("off: %d, %t", n, done)
+	}
 	for i, e := range []api.Errno{e, g.Seal(), g.Want(pkg("no 1")), g.Start(pkg("no 1")), g.All()} {
 		if e != api.ErrDown {
 			t.Errorf("off: %d: %d", i, e)
@@ -574,7 +577,7 @@ func TestOpen(t *testing.T) {
 		{append(slices.Clone(head), record("done", "app", "1.0.0", "()")), api.OK}, {append(slices.Clone(head), record("done", "app", "1.0.0", "(")), api.ErrForm},
 		{append(slices.Clone(head), record("done", "b", "1.0.0", "()")), api.ErrForm}, {append(slices.Clone(head), record("done", "cc", "1.0.0", "()")), api.ErrForm},
 		{append(slices.Clone(head[:4]), record("done", "app", "1.0.0", "()")), api.ErrForm}, {append(slices.Clone(head[:3]), record("done", "app", "1.0.0", "()")), api.ErrForm},
-		{append(slices.Clone(head), record("fail", "app", "1.0.0", "42")), api.OK}, {append(slices.Clone(head), record("fail", "app", "1.0.0", "9223372036854775807")), api.OK},
+		{append(slices.Clone(head), record("fail", "app", "1.0.0", "42")), api.OK}, {append(slices.Clone(head), record("fail", "app", "1.0.0", "1")), api.OK}, {append(slices.Clone(head), record("fail", "app", "1.0.0", "9223372036854775807")), api.OK},
 		{append(slices.Clone(head), record("fail", "app", "1.0.0", "9223372036854775808")), api.ErrForm}, {append(slices.Clone(head), record("fail", "app", "1.0.0", "0")), api.ErrForm},
 		{append(slices.Clone(head), record("fail", "app", "1.0.0", "-1")), api.ErrForm}, {append(slices.Clone(head), record("fail", "app", "1.0.0", "01")), api.ErrForm},
 		{append(slices.Clone(head), record("fail", "app", "1.0.0", "")), api.ErrForm}, {append(slices.Clone(head), record("fail", "b", "1.0.0", "42")), api.ErrForm},

@@ -39,7 +39,7 @@ func sameSource(a, b api.Source) bool {
 
 // P12.1
 func TestName(t *testing.T) {
-	for _, s := range []string{"a", "z9_", "tools", "x", "iff", "package_", "a" + strings.Repeat("_", 31)} {
+	for _, s := range []string{"a", "z9_", "a0", "a5b", "tools", "x", "iff", "package_", "a" + strings.Repeat("_", 31)} {
 		if !Name(s) {
 			t.Errorf("%q is no name", s)
 		}
@@ -150,6 +150,7 @@ func TestFaults(t *testing.T) {
 		"package " + open(32) + "@": api.ErrSyntax, "package " + open(32) + "@_x": api.ErrSyntax, "package " + open(31) + "a + (@b": api.ErrDeep,
 		"package " + strings.Repeat("let x = a in ", 31) + "let x = @b": api.ErrDeep, "package let x = " + open(31) + "@b": api.ErrDeep,
 		"package if a = b then c else " + open(31) + "@b": api.ErrDeep, "package a + b + " + open(32) + "@c": api.ErrDeep,
+		"package a version " + open(32) + "@b": api.ErrDeep, head + "tool " + open(32) + "@b": api.ErrDeep, head + "run a " + open(32) + "@b": api.ErrDeep,
 	} {
 		place := strings.Index(s, "@")
 		whole := strings.Replace(s, "@", "", 1)
@@ -169,6 +170,10 @@ func TestLimits(t *testing.T) {
 	}
 	if _, at, e := Parse(deep(32)); at != 40 || e != api.ErrDeep {
 		t.Errorf("32 brackets: %d, %d", at, e)
+	}
+	all := deep(31)[8 : 8+63]
+	if _, at, e := Parse("package " + all + " version " + all + " tool " + all + " " + all); at != 0 || e != api.OK {
+		t.Errorf("31 brackets everywhere: %d, %d", at, e)
 	}
 	fields := func(n int) string { return "package x version v" + strings.Repeat(" run x y", n) }
 	if x, at, e := Parse(fields(20)); at != 0 || e != api.OK || len(x.Fields) != 20 {

@@ -276,7 +276,8 @@ func TestGoingOver(t *testing.T) {
 func TestNewMemory(t *testing.T) {
 	s, x := New(), made(pkg("a", 1, 0, 0), "b", "c")
 	x.Run = []api.Dep{dep("d")}
-	want := copied(x)
+	want := made(pkg("a", 1, 0, 0), "b", "c")
+	want.Run = []api.Dep{dep("d")}
 	s.Add(x)
 	change := func(x *api.Recipe) {
 		x.Tool.Range[0].Lo, x.Build[0].Name, x.Build[1].Range[0].Lo, x.Run[0].Range[0].Hi = 5, "changed", 6, 7

@@ -409,6 +409,7 @@ func TestNewMemory(t *testing.T) {
 	keep(Cut(b, ""))
 	keep(Mount(b, "m", api.Tree{}))
 	keep(Mount(api.Tree{}, "", b))
+	keep(Mount(b, "n", api.Tree{Files: files("x", "")}))
 	if !same(b, a) || room[:9][8] != (api.File{}) || room[:9][3] != (api.File{}) {
 		t.Errorf("what was handed in is changed: %v", room[:9])
 	}
